@@ -1,0 +1,150 @@
+package phrasebook_test
+
+import (
+	"fmt"
+	"strings"
+	"testing"
+	"unsafe"
+
+	"phrasebook/api"
+	"phrasebook/phrasebook"
+)
+
+// roomy is a pack each list of which has spare room with something in it.
+func roomy() api.Pack {
+	phrases := []api.Phrase{
+		{Name: "a", Args: []int{0, 1, 77, 78}[:2], Code: []api.Ins{{Op: 1, A: 2, B: 3}, {Op: 77}, {Op: 78}}[:1]},
+		{Name: "b", Args: []int{79}[:0], Code: []api.Ins{{Op: 8}, {Op: 79}}[:1]},
+		{Name: "spare", Args: []int{1, 80}[:1], Code: []api.Ins{{Op: 80}, {Op: 81}}[:1]},
+	}
+	return api.Pack{Strings: []string{"x", "y", "spare", ""}[:2], Phrases: phrases[:2]}
+}
+
+// whole tells a pack and its spare room, and that of the lists in it.
+func whole(p api.Pack) string {
+	var b strings.Builder
+	fmt.Fprintf(&b, "%d %q %d", len(p.Strings), p.Strings[:cap(p.Strings)], len(p.Phrases))
+	for _, f := range p.Phrases[:cap(p.Phrases)] {
+		fmt.Fprintf(&b, " %q %d %v %d %v", f.Name, len(f.Args), f.Args[:cap(f.Args)], len(f.Code), f.Code[:cap(f.Code)])
+	}
+	return b.String()
+}
+
+func TestP2EncodeWritesNothing(t *testing.T) {
+	tooMany := roomy()
+	tooMany.Phrases = tooMany.Phrases[:3]
+	tooMany.Phrases[2].Name = "a"
+	for _, p := range []api.Pack{roomy(), tooMany} {
+		before := whole(p)
+		first, e := phrasebook.Encode(p)
+		if after := whole(p); after != before {
+			t.Errorf("Encode made of %s %s", before, after)
+		}
+		if again, f := phrasebook.Encode(p); again != first || f != e {
+			t.Errorf("Encode = %x, %d, and then %x, %d", first, e, again, f)
+		}
+	}
+}
+
+// lent is a string over memory that the test goes on writing into.
+func lent(b []byte) string { return unsafe.String(unsafe.SliceData(b), len(b)) }
+
+func spoil(b []byte) {
+	for i := range b {
+		b[i] = '-'
+	}
+}
+
+func TestP2NothingKept(t *testing.T) {
+	name, str := []byte("name"), []byte("string")
+	b, _ := phrasebook.Encode(api.Pack{Strings: []string{lent(str)}, Phrases: []api.Phrase{{Name: lent(name), Code: code(1)}}})
+	want := packed("\x01\x06string\x01\x04name\x00\x01\x00\x00\x00")
+	spoil(name)
+	spoil(str)
+	if b != want {
+		t.Errorf("Encode's answer became %x, want %x", b, want)
+	}
+	for _, c := range pairs() {
+		given := []byte(c.bytes)
+		p, _ := phrasebook.Decode(lent(given))
+		if string(given) != c.bytes {
+			t.Errorf("%s: Decode wrote into what it was given: %x", c.what, given)
+		}
+		spoil(given)
+		if text(p) != text(c.pack) {
+			t.Errorf("%s: Decode's answer became %s, want %s", c.what, text(p), text(c.pack))
+		}
+	}
+}
+
+// span is the memory of a list, its spare room too.
+type span struct {
+	what     string
+	from, to uintptr
+}
+
+func spanOf[T any](what string, l []T) span {
+	var one T
+	from := uintptr(unsafe.Pointer(unsafe.SliceData(l)))
+	return span{what, from, from + uintptr(cap(l))*unsafe.Sizeof(one)}
+}
+
+func spansOf(what string, p api.Pack) []span {
+	all := []span{spanOf(what+" strings", p.Strings), spanOf(what+" phrases", p.Phrases)}
+	for i, f := range p.Phrases {
+		all = append(all, spanOf(fmt.Sprint(what, " arguments of ", i), f.Args), spanOf(fmt.Sprint(what, " code of ", i), f.Code))
+	}
+	return all
+}
+
+func TestP2NoSharedMemory(t *testing.T) {
+	_, full := sized(4000)
+	many := packed("\x01\x01s\x03" + "\x01p\x02\x00\x01\x01\x00\x00\x00" + "\x01q\x02\x00\x01\x01\x00\x00\x00" + "\x01r\x00\x02\x00\x00\x00\x01\x01\x01")
+	for _, b := range []string{full, many} {
+		one, _ := phrasebook.Decode(b)
+		two, _ := phrasebook.Decode(b)
+		all := append(spansOf("first", one), spansOf("second", two)...)
+		for i, x := range all {
+			for _, y := range all[:i] {
+				if x.from < y.to && y.from < x.to {
+					t.Errorf("%s and %s share memory", y.what, x.what)
+				}
+			}
+		}
+	}
+}
+
+// scribble writes into all lists of a pack, and into their spare room.
+func scribble(p api.Pack) {
+	for i := range p.Phrases {
+		f := p.Phrases[i]
+		for k := range f.Args[:cap(f.Args)] {
+			f.Args[:cap(f.Args)][k] = -9
+		}
+		for k := range f.Code[:cap(f.Code)] {
+			f.Code[:cap(f.Code)][k] = api.Ins{Op: -9, A: -9, B: -9}
+		}
+	}
+	for i := range p.Strings[:cap(p.Strings)] {
+		p.Strings[:cap(p.Strings)][i] = "scribble"
+	}
+	for i := range p.Phrases[:cap(p.Phrases)] {
+		p.Phrases[:cap(p.Phrases)][i] = api.Phrase{Name: "scribble"}
+	}
+}
+
+func TestP2AnswersAreTheCallers(t *testing.T) {
+	for _, c := range pairs() {
+		kept, _ := phrasebook.Decode(c.bytes)
+		for range 3 {
+			p, e := phrasebook.Decode(c.bytes)
+			if text(p) != text(c.pack) || e != api.OK {
+				t.Errorf("%s: Decode = %s, %d, want %s", c.what, text(p), e, text(c.pack))
+			}
+			scribble(p)
+		}
+		if text(kept) != text(c.pack) {
+			t.Errorf("%s: an earlier answer became %s", c.what, text(kept))
+		}
+	}
+}
