@@ -142,3 +142,53 @@ func documentPack() api.Pack {
 		}}},
 	}
 }
+
+var (
+	add  = api.Ins{Op: api.Add}
+	emit = api.Ins{Op: api.Emit}
+	end  = api.Ins{Op: api.End}
+)
+
+func lit(a int) api.Ins     { return api.Ins{Op: api.Lit, A: a} }
+func arg(a int) api.Ins     { return api.Ins{Op: api.Arg, A: a} }
+func number(a int) api.Ins  { return api.Ins{Op: api.Const, A: a} }
+func same(a, b int) api.Ins { return api.Ins{Op: api.Same, A: a, B: b} }
+func less(b int) api.Ins    { return api.Ins{Op: api.Less, B: b} }
+func jump(b int) api.Ins    { return api.Ins{Op: api.Jump, B: b} }
+
+// list makes a phrase's code readable in a table.
+func list(c ...api.Ins) []api.Ins { return c }
+
+// The strings of the phrases under test, by what they do to the page.
+const (
+	toValue   = iota // text to value
+	fromValue        // value to text
+	endTag           // text to text
+	one              // text to text
+	toOpening        // text to opening
+	letter           // opening to tag, and where a letter may stand
+	slash            // opening to closing
+	blank            // tag, behind to between
+	equals           // name to equals
+	quote            // equals to value, value to behind
+	empty            // to where one was
+	halfWrong        // its last byte has no way on
+	greater          // to text
+	howMany          // strings there are
+)
+
+func strs() []string {
+	return []string{`<p title="`, `">`, `</p>`, `one`, `<`, `a`, `/`, ` `, `=`, `"`, ``, `one<p><<`, `>`}
+}
+
+// kinds of the arguments of the phrases under test.
+func kinds() []int { return []int{api.Text, api.Number, api.Text} }
+
+// phrases is a pack of several, named by letters.
+func phrases(codes ...[]api.Ins) api.Pack {
+	p := api.Pack{Strings: strs()}
+	for i, c := range codes {
+		p.Phrases = append(p.Phrases, api.Phrase{Name: letters(len(codes))[i], Args: kinds(), Code: c})
+	}
+	return p
+}

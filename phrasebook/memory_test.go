@@ -148,3 +148,93 @@ func TestP2AnswersAreTheCallers(t *testing.T) {
 		}
 	}
 }
+
+// told is all that a book tells of itself.
+func told(b *phrasebook.Book) string {
+	all := fmt.Sprintf("%q", b.Names())
+	for _, n := range b.Names() {
+		k, e := b.Bound(n)
+		all += fmt.Sprint(" ", k, e)
+	}
+	return all
+}
+
+func TestP2LoadKeepsNothing(t *testing.T) {
+	s, _ := phrasebook.Encode(phrases(list(lit(one), arg(0), emit, end), list(arg(1), emit, end)))
+	given := []byte(s)
+	b, _, _ := phrasebook.Load(lent(given))
+	if string(given) != s {
+		t.Errorf("Load wrote into what it was given: %x", given)
+	}
+	before := told(b)
+	spoil(given)
+	if after := told(b); after != before {
+		t.Errorf("a book became %s, it was %s", after, before)
+	}
+	faulty, _ := phrasebook.Encode(phrases(list(emit)))
+	given = []byte(faulty)
+	if phrasebook.Load(lent(given)); string(given) != faulty {
+		t.Errorf("Load wrote into what it was given: %x", given)
+	}
+}
+
+func TestP2NamesAreTheCallers(t *testing.T) {
+	b := loaded(t, withNames("b", "a", "c"))
+	kept := b.Names()
+	for range 3 {
+		l := b.Names()
+		if fmt.Sprint(l) != "[b a c]" {
+			t.Errorf("Names = %q", l)
+		}
+		x, y := spanOf("", kept), spanOf("", l)
+		if x.from < y.to && y.from < x.to {
+			t.Error("two lists of names share memory")
+		}
+		for i := range l[:cap(l)] {
+			l[:cap(l)][i] = "scribble"
+		}
+		_ = append(l[:1], "more")
+	}
+	if fmt.Sprint(kept) != "[b a c]" {
+		t.Errorf("an earlier answer became %q", kept)
+	}
+	if k, e := b.Bound("scribble"); k != (api.Bound{}) || e != api.ErrName {
+		t.Errorf("Bound = %v, %d, want ErrName", k, e)
+	}
+}
+
+func TestP2BooksDoNotTouch(t *testing.T) {
+	one, two := phrases(list(lit(one), end)), phrases(list(arg(1), emit, end), list(end))
+	b := loaded(t, one)
+	before := told(b)
+	c := loaded(t, two)
+	loadPack(t, phrases(list(emit)))
+	if after := told(b); after != before {
+		t.Errorf("a book became %s, it was %s", after, before)
+	}
+	if again := told(loaded(t, one)); again != before {
+		t.Errorf("loaded again a book tells %s, it told %s", again, before)
+	}
+	if told(c) == before {
+		t.Errorf("two books tell the same: %s", before)
+	}
+}
+
+// Who asks one book from many goroutines, or loads in many, is told the same (go test -race sees more).
+func TestP2AtOnce(t *testing.T) {
+	s, _ := phrasebook.Encode(phrases(list(lit(one), end), list(arg(0), emit, end), list(end)))
+	b, _, _ := phrasebook.Load(s)
+	want := told(b)
+	answers := make(chan string)
+	for range 20 {
+		go func() {
+			mine, _, _ := phrasebook.Load(s)
+			answers <- told(mine) + told(b)
+		}()
+	}
+	for range 20 {
+		if got := <-answers; got != want+want {
+			t.Errorf("at once: %s, want %s twice", got, want)
+		}
+	}
+}

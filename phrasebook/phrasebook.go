@@ -6,9 +6,6 @@ import (
 	"phrasebook/wire"
 )
 
-// Book is one that was loaded.
-type Book struct{}
-
 // Encode makes a pack's bytes (P3).
 func Encode(p api.Pack) (string, api.Errno) {
 	if !wire.Within(p) {
@@ -38,15 +35,3 @@ func read(b string) (p api.Pack, e api.Errno) {
 	}()
 	return wire.Read(b), api.OK
 }
-
-// Load loads a book (P5, P6).
-func Load(b string) (*Book, api.Errno, api.Fault) { return nil, api.OK, api.Fault{} }
-
-// Names tells the phrases (P7).
-func (b *Book) Names() []string { return nil }
-
-// Bound tells how large a phrase can become (P8).
-func (b *Book) Bound(name string) (api.Bound, api.Errno) { return api.Bound{}, api.OK }
-
-// Format runs a phrase (P9, P10).
-func (b *Book) Format(name string, args []api.Value) (string, api.Errno) { return "", api.OK }
