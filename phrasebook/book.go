@@ -4,11 +4,13 @@ import "phrasebook/api"
 
 // Book is one that was loaded.
 type Book struct {
+	strings []string
 	phrases []phrase
 }
 
+// phrase: one that is sound, and how large it can become.
 type phrase struct {
-	name  string
+	api.Phrase
 	bound api.Bound
 }
 
@@ -16,20 +18,25 @@ type phrase struct {
 func (b *Book) Names() []string {
 	names := make([]string, len(b.phrases))
 	for i, f := range b.phrases {
-		names[i] = f.name
+		names[i] = f.Name
 	}
 	return names
 }
 
 // Bound tells how large a phrase can become (P8).
 func (b *Book) Bound(name string) (api.Bound, api.Errno) {
-	for _, f := range b.phrases {
-		if f.name == name {
-			return f.bound, api.OK
-		}
+	f, ok := b.find(name)
+	if !ok {
+		return api.Bound{}, api.ErrName
 	}
-	return api.Bound{}, api.ErrName
+	return f.bound, api.OK
 }
 
-// Format runs a phrase (P9, P10).
-func (b *Book) Format(name string, args []api.Value) (string, api.Errno) { return "", api.OK }
+func (b *Book) find(name string) (phrase, bool) {
+	for _, f := range b.phrases {
+		if f.Name == name {
+			return f, true
+		}
+	}
+	return phrase{}, false
+}

@@ -24,12 +24,12 @@ func Load(b string) (*Book, api.Errno, api.Fault) {
 	for f := range lookOver(p) {
 		all[f.number] = f
 	}
-	book := &Book{}
+	book := &Book{strings: p.Strings}
 	for i, f := range all {
 		if f.fault.Why != 0 {
 			return nil, api.ErrCode, f.fault
 		}
-		book.phrases = append(book.phrases, phrase{p.Phrases[i].Name, f.bound})
+		book.phrases = append(book.phrases, phrase{p.Phrases[i], f.bound})
 	}
 	return book, api.OK, api.Fault{}
 }

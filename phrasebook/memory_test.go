@@ -154,7 +154,8 @@ func told(b *phrasebook.Book) string {
 	all := fmt.Sprintf("%q", b.Names())
 	for _, n := range b.Names() {
 		k, e := b.Bound(n)
-		all += fmt.Sprint(" ", k, e)
+		s, f := b.Format(n, threeOf("a<b", -7, "z"))
+		all += fmt.Sprintf(" %v %d %q %d", k, e, s, f)
 	}
 	return all
 }
@@ -236,5 +237,98 @@ func TestP2AtOnce(t *testing.T) {
 		if got := <-answers; got != want+want {
 			t.Errorf("at once: %s, want %s twice", got, want)
 		}
+	}
+}
+
+// roomyRow is a row of values with spare room that has something in it.
+func roomyRow(first, last string) []api.Value {
+	return append(threeOf(first, -7, last), textOf("spare"), numberOf(3))[:3]
+}
+
+func TestP2FormatWritesNothing(t *testing.T) {
+	b := loaded(t, phrases(
+		list(arg(0), arg(1), arg(2), emit, emit, emit, end),
+		list(arg(1), number(1), add, arg(1), less(5), arg(0), same(one, 7), end),
+	))
+	long := strings.Repeat("x", 400)
+	for _, name := range []string{"a", "b", "c"} {
+		for _, args := range [][]api.Value{roomyRow("a<b", "z"), roomyRow("one", ""), roomyRow(long, "z"), roomyRow("x", "y")[:2], roomyRow("x", "y")[:5], roomyRow("x", "y")[:0]} {
+			before := fmt.Sprint(args[:cap(args)])
+			first, e := b.Format(name, args)
+			if after := fmt.Sprint(args[:cap(args)]); after != before {
+				t.Errorf("Format made of %s %s", before, after)
+			}
+			if again, f := b.Format(name, args); again != first || f != e {
+				t.Errorf("Format = %q, %d, and then %q, %d", first, e, again, f)
+			}
+		}
+	}
+}
+
+func TestP2FormatKeepsNothing(t *testing.T) {
+	b := loaded(t, phrases(list(arg(0), emit, end), list(arg(2), arg(0), emit, emit, end)))
+	name, first, last := []byte("a"), []byte("plain"), []byte("<")
+	args := threeOf(lent(first), 5, lent(last))
+	alone, _ := b.Format(lent(name), args)
+	name[0] = 'b'
+	both, _ := b.Format(lent(name), args)
+	if string(name) != "b" || string(first) != "plain" || string(last) != "<" {
+		t.Errorf("Format wrote into what it was given: %s, %s, %s", name, first, last)
+	}
+	spoil(name)
+	spoil(first)
+	spoil(last)
+	args[0], args[1], args[2] = numberOf(1), textOf("x"), numberOf(2)
+	if alone != "plain" || both != "plain&lt;" {
+		t.Errorf("answers became %q and %q", alone, both)
+	}
+	wantOut(t, "later", b, "b", threeOf("later", 5, ">"), "later&gt;")
+}
+
+// No answer is a piece of an argument, of the book or of another answer.
+func TestP2FormatsAnswersAreNew(t *testing.T) {
+	p := phrases(list(arg(0), emit, end), list(lit(one), end), list(arg(1), emit, end))
+	b := loaded(t, p)
+	given := "plain text of some length"
+	for _, name := range b.Names() {
+		var all []span
+		all = append(all, stringSpan("the argument", given))
+		for range 3 {
+			s, _ := b.Format(name, threeOf(given, 1234567, ""))
+			all = append(all, stringSpan("an answer", s))
+		}
+		for i, x := range all {
+			for _, y := range all[:i] {
+				if x.from < y.to && y.from < x.to {
+					t.Errorf("%s: %s and %s share memory", name, y.what, x.what)
+				}
+			}
+		}
+	}
+}
+
+func stringSpan(what, s string) span {
+	return spanOf(what, unsafe.Slice(unsafe.StringData(s), len(s)))
+}
+
+// Books of the same names put out what is their own, whichever is asked first.
+func TestP2BooksBesideOneAnother(t *testing.T) {
+	first := phrases(list(lit(one), end), list(arg(0), emit, end))
+	second := phrases(list(arg(1), emit, end), list(arg(2), emit, end))
+	third := phrases(list(lit(one), end), list(arg(0), emit, end))
+	third.Strings[one] = "other"
+	third.Phrases[1].Args = []int{api.Text}
+	a, b, c := loaded(t, first), loaded(t, second), loaded(t, third)
+	for range 3 {
+		wantOut(t, "the first", a, "a", threeOf("x", 5, "z"), "one")
+		wantOut(t, "the second", b, "a", threeOf("x", 5, "z"), "5")
+		wantOut(t, "the third", c, "a", threeOf("x", 5, "z"), "other")
+		wantOut(t, "the first", a, "b", threeOf("x", 5, "z"), "x")
+		wantOut(t, "the second", b, "b", threeOf("x", 5, "z"), "z")
+		wantOut(t, "the third", c, "b", row(textOf("x")), "x")
+		wantErr(t, "the third", c, "b", threeOf("x", 5, "z"), api.ErrArgs)
+		wantErr(t, "the first", a, "b", row(textOf("x")), api.ErrArgs)
+		wantErr(t, "the second", b, "b", threeOf("", 5, strings.Repeat("x", 400)), api.ErrLarge)
+		wantOut(t, "the first", a, "b", threeOf("", 5, strings.Repeat("x", 400)), "")
 	}
 }
